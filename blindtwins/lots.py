@@ -1,0 +1,71 @@
+"""Lots: ascending tuples of numbers, which stand for sets of places and for words."""
+
+from blindtwins.errors import BadLot, BadLots, BadSize
+from blindtwins.masks import lot_of, mask_of, odd
+
+MOST_PLACES = 60
+MOST_LOTS = 60
+
+
+def is_number(value):
+    """True if the value is an integer; a flag is none."""
+    return isinstance(value, int) and not isinstance(value, bool)
+
+
+def is_lot(value, size):
+    """True if the value is a lot of this size, otherwise False."""
+    if not is_number(size) or not 0 <= size <= MOST_PLACES:
+        raise BadSize(size)
+    if not isinstance(value, tuple):
+        return False
+    least = 0
+    for place in value:
+        if not is_number(place) or not least <= place < size:
+            return False
+        least = place + 1
+    return True
+
+
+def need_lot(value, size):
+    """Raises BadLot(value) if the value is not a lot of this size."""
+    if not is_lot(value, size):
+        raise BadLot(value)
+
+
+def need_each_lot(values, size):
+    """Raises BadLots(index) for the first item that is not a lot of this size."""
+    for index, value in enumerate(values):
+        if not is_lot(value, size):
+            raise BadLots(index)
+
+
+def need_lots(value, size):
+    """Raises BadLots if the value is not a list of at most 60 lots of this size."""
+    if not isinstance(value, list) or len(value) > MOST_LOTS:
+        raise BadLots(-1)
+    need_each_lot(value, size)
+
+
+def plus(one, other):
+    """The sum of two lots: the numbers that are in exactly one of them."""
+    need_lot(one, MOST_PLACES)
+    need_lot(other, MOST_PLACES)
+    return lot_of(mask_of(one) ^ mask_of(other))
+
+
+def bit_at(word, lot):
+    """The bit of the word at the lot."""
+    need_lot(word, MOST_PLACES)
+    need_lot(lot, MOST_PLACES)
+    return odd(mask_of(word) & mask_of(lot))
+
+
+def total(lots):
+    """The sum of all lots of a list."""
+    if not isinstance(lots, list):
+        raise BadLots(-1)
+    need_each_lot(lots, MOST_PLACES)
+    mask = 0
+    for lot in lots:
+        mask ^= mask_of(lot)
+    return lot_of(mask)

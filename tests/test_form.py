@@ -1,0 +1,147 @@
+"""The rules of LANGUAGE.md that a look at the source can tell."""
+
+import ast
+import builtins
+import inspect
+import os
+import re
+import unittest
+
+from blindtwins import books, errors, known, lots
+
+PACKAGE = os.path.join(os.path.dirname(os.path.dirname(os.path.abspath(__file__))), "blindtwins")
+BUILTINS = """len range enumerate zip min max sum abs sorted reversed int str bool bytes list tuple
+dict set frozenset isinstance ord repr any all divmod iter next Exception ValueError TypeError
+KeyError IndexError LookupError ZeroDivisionError ArithmeticError OverflowError RuntimeError
+NotImplementedError AttributeError StopIteration NotImplemented super property staticmethod
+classmethod""".split()
+LIBRARY = {"heapq": "heappush heappop heapify heapreplace heappushpop".split(),
+           "math": "gcd lcm isqrt comb perm factorial".split(),
+           "itertools": "product combinations permutations".split()}
+# Barred everywhere, and barred but for attributes.
+NOWHERE = """type typing typing_extensions enum Enum IntEnum StrEnum Flag IntFlag Generic Protocol ABC
+ABCMeta namedtuple NamedTuple TypedDict TYPE_CHECKING abstractmethod register mro elements open
+input law version_info with_traceback add_note""".split()
+NO_NAMES = """attrgetter breakpoint builtins compile copyright credits delattr dir eval exec exit gc
+getattr globals hasattr help id importlib license locals methodcaller os quit setattr vars""".split()
+INTERFACE = {
+    lots: ["is_lot(value, size)", "plus(one, other)", "bit_at(word, lot)", "total(lots)"],
+    known: ["see(book, part)", "hide(book, part)", "knows(book, part, wish)",
+            "knows_fault(book, part, wish, answer)", "left(book, wishes, part)",
+            "fillings(book, wishes, part, word)", "least_more(book, part, wish, prices)",
+            "same_known(book, one, other)"],
+}
+METHODS = """rows(self) checks(self) holds(self,word) is_check(self,lot) tell_same(self,one,other)
+turned(self) within(self,part) shown(self,part) on(self,part) under(self,part) join(self,other)
+meet(self,other) beside(self,other) moved(self,order) with_sum(self,lot) words(self)
+word_of(self,numbers) __eq__(self,other) __init__(self,size,rows)""".split()
+
+
+def sources():
+    """(file name, text, tree) of each file of the package."""
+    for name in sorted(os.listdir(PACKAGE)):
+        if name.endswith(".py"):
+            with open(os.path.join(PACKAGE, name), encoding="utf-8") as file:
+                text = file.read()
+            yield name, text, ast.parse(text)
+
+
+def nodes(kind):
+    for name, _, tree in sources():
+        for node in ast.walk(tree):
+            if isinstance(node, kind):
+                yield f"{name}:{getattr(node, 'lineno', 0)}", node
+
+
+class TestFiles(unittest.TestCase):
+
+    def test_files(self):
+        for name in os.listdir(PACKAGE):
+            self.assertTrue(name == "__pycache__" or re.fullmatch(r"[a-z_0-9]+\.py", name), name)
+
+    def test_lines(self):
+        for name, text, _ in sources():
+            lines = text.split("\n")
+            self.assertLessEqual(len(lines), 399, name)
+            self.assertTrue(all(len(line) <= 120 for line in lines), name)
+            self.assertTrue(all(sign == "\n" or " " <= sign <= "~" for sign in text), name)
+
+    def test_functions_are_small(self):
+        for where, node in nodes((ast.FunctionDef, ast.Lambda)):
+            self.assertLessEqual(node.end_lineno - node.lineno, 39, where)
+
+    def test_words(self):
+        for where, node in nodes(ast.Constant):
+            if isinstance(node.value, str) and "\n" not in node.value:
+                self.assertNotIn("%", node.value, where)
+        for where, node in nodes((ast.Name, ast.arg, ast.FunctionDef, ast.ClassDef)):
+            for field in ("id", "arg", "name"):
+                self.assertNotIn(getattr(node, field, None), NOWHERE + NO_NAMES, where)
+        for where, node in nodes(ast.Attribute):
+            self.assertNotIn(node.attr, NOWHERE, where)
+
+
+class TestStatements(unittest.TestCase):
+
+    def test_imports(self):
+        for where, node in nodes((ast.Import, ast.ImportFrom)):
+            self.assertIsInstance(node, ast.ImportFrom, where)
+            self.assertEqual(node.level, 0, where)
+            if node.module in LIBRARY:
+                self.assertTrue(all(item.name in LIBRARY[node.module] for item in node.names), where)
+            else:
+                self.assertTrue(node.module.startswith("blindtwins."), where)
+            self.assertTrue(all(item.asname is None for item in node.names), where)
+
+    def test_builtins(self):
+        every = [name for name in dir(builtins) if not name.startswith("__")]
+        for where, node in nodes(ast.Name):
+            if node.id in every:
+                self.assertIn(node.id, BUILTINS, where)
+                self.assertIsInstance(node.ctx, ast.Load, where)
+        for where, node in nodes((ast.arg, ast.FunctionDef)):
+            name = node.arg if isinstance(node, ast.arg) else node.name
+            self.assertNotIn(name, every, where)
+
+    def test_statements(self):
+        for where, node in nodes((ast.Global, ast.AsyncFunctionDef, ast.Await, ast.Div)):
+            self.fail(f"{where} {type(node).__name__}")
+
+    def test_calls(self):
+        # The package has classes with __eq__, so these take lists and there is no xs.sort().
+        takers = ("any", "all", "min", "max", "sum", "sorted")
+        for where, node in nodes(ast.Call):
+            if isinstance(node.func, ast.Attribute):
+                self.assertNotEqual(node.func.attr, "sort", where)
+            elif isinstance(node.func, ast.Name) and node.func.id in takers:
+                generators = [arg for arg in node.args if isinstance(arg, ast.GeneratorExp)]
+                self.assertEqual(generators, [], where)
+
+    def test_numbers(self):
+        for where, node in nodes(ast.Constant):
+            self.assertNotIsInstance(node.value, (float, complex), where)
+
+
+class TestInterface(unittest.TestCase):
+
+    def test_functions(self):
+        for module, listed in INTERFACE.items():
+            for line in listed:
+                function = getattr(module, line.split("(")[0])
+                self.assertEqual(function.__name__ + str(inspect.signature(function)), line)
+                self.assertEqual(function.__module__, module.__name__)
+
+    def test_book(self):
+        self.assertEqual(books.Book.__module__, "blindtwins.books")
+        for line in METHODS:
+            method = vars(books.Book)[line.split("(")[0]]
+            found = str(inspect.signature(method)).replace(" ", "")
+            self.assertEqual(method.__name__ + found, line)
+
+    def test_attributes_are_set_at_once(self):
+        self.assertEqual(sorted(vars(books.Book(2, []))), ["dim", "masks", "size"])
+        self.assertEqual(vars(errors.BadLot(3)), {"what": 3})
+
+
+if __name__ == "__main__":
+    unittest.main()
