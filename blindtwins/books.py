@@ -3,7 +3,7 @@
 from blindtwins.errors import BadLot, BadOrder, BadSize, TooMany, Unlike
 from blindtwins.lots import is_lot, is_number, need_lot, need_lots, plus
 from blindtwins.masks import ALL_PLACES, check_rows, cleared, lot_of, mask_of, odd
-from blindtwins.masks import picked, reduce_rows, span, sweep
+from blindtwins.masks import picked, reduce_rows, span, unseen
 
 MOST_SIZE = 24
 MOST_WORDS = 4096
@@ -55,8 +55,7 @@ class Book:
     def within(self, part):
         """The book of the words that have all their ones in the part."""
         need_lot(part, self.size)
-        _, inner = sweep(self.masks, ~mask_of(part))
-        return _told(self.size, inner)
+        return _told(self.size, unseen(self.masks, ~mask_of(part)))
 
     def shown(self, part):
         """The book of the words with 0 put at all places outside of the part."""

@@ -2,8 +2,9 @@
 
 from blindtwins.books import MOST_WORDS
 from blindtwins.errors import BadLot, BadPrices, TooMany
-from blindtwins.lots import is_lot, is_number, need_lot, need_lots
-from blindtwins.masks import bits_at, lot_of, lowest, mask_of, odd, picked, reduce_rows, span, sweep
+from blindtwins.lots import is_lot, is_number, is_price, need_lot, need_lots
+from blindtwins.masks import bits_at, certificate, costs_of, lot_of, mask_of, odd, picked
+from blindtwins.masks import reduce_rows, span, sweep, unseen
 
 MOST_OFFERED = 12
 
@@ -24,15 +25,8 @@ def knows(book, part, wish):
     """("sum", X) with a lot X within the part that tells the wish, or ("twin", word)."""
     need_lot(part, book.size)
     need_lot(wish, book.size)
-    inside = mask_of(part)
-    at = mask_of(wish)
-    seen, hidden = sweep(book.masks, inside)
-    for row in hidden:
-        if odd(row & at):
-            return "twin", lot_of(row)
-    # The first place of a seen row stands in no other row, so it turns the bit of this row alone.
-    firsts = [lowest(row & inside) for row in seen if odd(row & at)]
-    return "sum", lot_of(sum(firsts))
+    kind, mask = certificate(book.masks, mask_of(part), mask_of(wish))
+    return kind, lot_of(mask)
 
 
 def knows_fault(book, part, wish, answer):
@@ -95,9 +89,8 @@ def left(book, wishes, part):
 
 def _free_bits(book, wishes, part):
     """Rows, reduced, of the bits at the wishes that the words that are 0 on the part have."""
-    _, hidden = sweep(book.masks, mask_of(part))
     ats = [mask_of(wish) for wish in wishes]
-    return reduce_rows([bits_at(row, ats) for row in hidden])
+    return reduce_rows([bits_at(row, ats) for row in unseen(book.masks, mask_of(part))])
 
 
 def fillings(book, wishes, part, word):
@@ -122,9 +115,7 @@ def least_more(book, part, wish, prices):
         raise BadPrices(prices)
     offered = sorted(list(prices))
     rows, turns = _unseen_offer(book, mask_of(part), mask_of(wish), offered)
-    costs = [0]
-    for place in offered:
-        costs = costs + [cost + prices[place] for cost in costs]
+    costs = costs_of([prices[place] for place in offered])
     best = None
     for choice, cost in enumerate(costs):
         if (best is None or cost < costs[best]) and _shuts_out(rows, choice, turns):
@@ -141,7 +132,7 @@ def _are_prices(value, size):
     for place, price in value.items():
         if not is_number(place) or not 0 <= place < size:
             return False
-        if not is_number(price) or price < 0:
+        if not is_price(price):
             return False
     return True
 
@@ -152,16 +143,15 @@ def _unseen_offer(book, part, wish, offered):
     Bit k of a row stands for offered[k], and the bit `turns` behind them for the wish. They are
     reduced once, so that the search goes over few and short rows.
     """
-    _, hidden = sweep(book.masks, part)
     behind = len(offered)
+    hidden = unseen(book.masks, part)
     rows = [picked(row, offered) | odd(row & wish) << behind for row in hidden]
     return reduce_rows(rows), 1 << behind
 
 
 def _shuts_out(rows, choice, turns):
     """True if no sum of the rows is 0 on the choice and has the bit `turns`: no twin is left."""
-    _, blind = sweep(rows, choice)
-    return not any([row & turns for row in blind])
+    return not any([row & turns for row in unseen(rows, choice)])
 
 
 def same_known(book, one, other):
@@ -179,8 +169,7 @@ def same_known(book, one, other):
 
 def _hidden_from_one_alone(book, one, other):
     """A word that is 0 on the part `one` and not on the part `other`; None if there is none."""
-    _, hidden = sweep(book.masks, one)
-    for row in hidden:
+    for row in unseen(book.masks, one):
         if row & other:
             return lot_of(row)
     return None

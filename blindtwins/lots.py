@@ -12,10 +12,25 @@ def is_number(value):
     return isinstance(value, int) and not isinstance(value, bool)
 
 
-def is_lot(value, size):
-    """True if the value is a lot of this size, otherwise False."""
+def is_bit(value):
+    """True if the value is the integer 0 or 1."""
+    return is_number(value) and 0 <= value <= 1
+
+
+def is_price(value):
+    """True if the value is an integer from 0 on."""
+    return is_number(value) and value >= 0
+
+
+def need_size(size):
+    """Raises BadSize(size) unless it is a size that lots may have."""
     if not is_number(size) or not 0 <= size <= MOST_PLACES:
         raise BadSize(size)
+
+
+def is_lot(value, size):
+    """True if the value is a lot of this size, otherwise False."""
+    need_size(size)
     if not isinstance(value, tuple):
         return False
     least = 0
@@ -39,9 +54,9 @@ def need_each_lot(values, size):
             raise BadLots(index)
 
 
-def need_lots(value, size):
-    """Raises BadLots if the value is not a list of at most 60 lots of this size."""
-    if not isinstance(value, list) or len(value) > MOST_LOTS:
+def need_lots(value, size, most=MOST_LOTS):
+    """Raises BadLots if the value is not a list of at most so many lots of this size."""
+    if not isinstance(value, list) or len(value) > most:
         raise BadLots(-1)
     need_each_lot(value, size)
 

@@ -88,3 +88,28 @@ def lacking(wishes, known):
             if not any(lot in known for lot in all_sums):
                 return number
     return 0
+
+
+def least(lots):
+    """Those of the lots (or tuples of names) that contain no other one, ascending."""
+    return sorted(one for one in lots if not any(set(other) < set(one) for other in lots))
+
+
+def without(one, other):
+    return tuple(item for item in one if item not in other)
+
+
+def union(lots):
+    return tuple(sorted(set(item for lot in lots for item in lot)))
+
+
+def partitions(places):
+    """All lists of lots, not empty, without common places, that have all these places."""
+    if not places:
+        return [[]]
+    first, rest = places[0], places[1:]
+    found = []
+    for some in parts_of(rest):
+        for others in partitions(without(rest, some)):
+            found.append([(first,) + some] + others)
+    return found

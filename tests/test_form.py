@@ -7,7 +7,7 @@ import os
 import re
 import unittest
 
-from blindtwins import books, errors, known, lots
+from blindtwins import books, clutters, deals, errors, known, looks, lots, stores
 
 PACKAGE = os.path.join(os.path.dirname(os.path.dirname(os.path.abspath(__file__))), "blindtwins")
 BUILTINS = """len range enumerate zip min max sum abs sorted reversed int str bool bytes list tuple
@@ -24,17 +24,37 @@ ABCMeta namedtuple NamedTuple TypedDict TYPE_CHECKING abstractmethod register mr
 input law version_info with_traceback add_note""".split()
 NO_NAMES = """attrgetter breakpoint builtins compile copyright credits delattr dir eval exec exit gc
 getattr globals hasattr help id importlib license locals methodcaller os quit setattr vars""".split()
+# Barred as names, also with digits or underscores behind them; and as beginnings of names.
+NOT_CALLED = r"(_cold|_tuplegetter|_outside|_record|_written_out|_member_names)[0-9_]*"
+NOT_BEGUN = r"(__|_[^a-z]|_wall|_pe_|_dcw_|_enum_|_cm_|_twin_re_|_lay_|_law_|_stub_|_sre|_WallAttr)"
+DOUBLE = ["__init__", "__eq__"]
 INTERFACE = {
     lots: ["is_lot(value, size)", "plus(one, other)", "bit_at(word, lot)", "total(lots)"],
     known: ["see(book, part)", "hide(book, part)", "knows(book, part, wish)",
             "knows_fault(book, part, wish, answer)", "left(book, wishes, part)",
             "fillings(book, wishes, part, word)", "least_more(book, part, wish, prices)",
             "same_known(book, one, other)"],
+    clutters: ["least_knowing(book, wish)", "least_blinding(book, wish)", "is_clutter(value, size)",
+               "blocker(clutter, size)", "cheapest_knowing(book, wish, prices)",
+               "cheapest_blinding(book, wish, prices)"],
+    stores: ["places_of(store, disks)", "lost(store, fall)", "heal(store, fall)",
+             "heal_fault(store, fall, answer)", "repair(store, place, fall, prices)",
+             "rounds(store, fall, most)", "weakest(store)", "bad_falls(store, number)",
+             "heals(store, sums, falls)"],
+    looks: ["is_look(value, wires)", "together(one, other)", "times(one, other)"],
 }
-METHODS = """rows(self) checks(self) holds(self,word) is_check(self,lot) tell_same(self,one,other)
+METHODS = {
+    books.Book: """rows(self) checks(self) holds(self,word) is_check(self,lot) tell_same(self,one,other)
 turned(self) within(self,part) shown(self,part) on(self,part) under(self,part) join(self,other)
 meet(self,other) beside(self,other) moved(self,order) with_sum(self,lot) words(self)
-word_of(self,numbers) __eq__(self,other) __init__(self,size,rows)""".split()
+word_of(self,numbers) __eq__(self,other) __init__(self,size,rows)""".split(),
+    stores.Store: "__init__(self,book,disks) __eq__(self,other)".split(),
+    deals.Deal: """__init__(self,book,hands,secrets) knows(self,group,secret)
+knows_fault(self,group,secret,answer) left(self,group,names) say(self,lot) leave(self,name)
+hand_over(self,name,other) least_groups(self,secret) least_blinding(self,secret)
+agreed(self,hands,listeners) agreed_lots(self,hands,listeners)
+agreed_fault(self,hands,listeners,lots) __eq__(self,other)""".split(),
+}
 
 
 def sources():
@@ -81,6 +101,15 @@ class TestFiles(unittest.TestCase):
             self.assertNotIn(node.attr, NOWHERE, where)
 
 
+    def test_plain_names(self):
+        for where, node in nodes((ast.Name, ast.arg, ast.FunctionDef, ast.ClassDef, ast.Attribute)):
+            for field in ("id", "arg", "name", "attr"):
+                name = getattr(node, field, "")
+                if isinstance(name, str) and name not in DOUBLE and name != "_":
+                    self.assertIsNone(re.fullmatch(NOT_CALLED, name), where)
+                    self.assertIsNone(re.match(NOT_BEGUN, name), where)
+
+
 class TestStatements(unittest.TestCase):
 
     def test_imports(self):
@@ -92,6 +121,49 @@ class TestStatements(unittest.TestCase):
             else:
                 self.assertTrue(node.module.startswith("blindtwins."), where)
             self.assertTrue(all(item.asname is None for item in node.names), where)
+
+    def test_names_are_bound_once(self):
+        for name, _, tree in sources():
+            imported = [item.name for node in tree.body if isinstance(node, ast.ImportFrom) for item in node.names]
+            defined = [node.name for node in tree.body if isinstance(node, (ast.FunctionDef, ast.ClassDef))]
+            targets = [node.targets[0].id for node in tree.body if isinstance(node, ast.Assign)]
+            every = imported + defined + targets
+            self.assertEqual(sorted(every), sorted(set(every)), name)
+            local = [node.arg for node in ast.walk(tree) if isinstance(node, ast.arg)]
+            functions = [node for node in ast.walk(tree) if isinstance(node, ast.FunctionDef)]
+            local += [node.id for function in functions for node in ast.walk(function)
+                      if isinstance(node, ast.Name) and isinstance(node.ctx, ast.Store)]
+            self.assertEqual(set(local) & set(every), set(), name)
+            used = [node.id for node in ast.walk(tree) if isinstance(node, ast.Name)]
+            self.assertEqual(set(imported) - set(used), set(), name)
+
+    def test_imports_name_the_file_that_defines(self):
+        trees = {name: tree for name, _, tree in sources()}
+        for where, node in nodes(ast.ImportFrom):
+            if node.module.startswith("blindtwins."):
+                body = trees[node.module.split(".")[1] + ".py"].body
+                defined = [item.name for item in body if isinstance(item, (ast.FunctionDef, ast.ClassDef))]
+                defined += [item.targets[0].id for item in body if isinstance(item, ast.Assign)]
+                for item in node.names:
+                    self.assertIn(item.name, defined, where)
+
+    def test_no_import_leads_back(self):
+        needs = {name: set() for name, _, _ in sources()}
+        for where, node in nodes(ast.ImportFrom):
+            if node.module.startswith("blindtwins."):
+                needs[where.split(":")[0]].add(node.module.split(".")[1] + ".py")
+        while needs:
+            free = [name for name in needs if not needs[name] & set(needs)]
+            self.assertNotEqual(free, [], needs)
+            needs = {name: needs[name] for name in needs if name not in free}
+
+    def test_attributes_and_methods_have_unlike_names(self):
+        for where, node in nodes(ast.ClassDef):
+            methods = [item.name for item in node.body if isinstance(item, ast.FunctionDef)]
+            attributes = [item.attr for item in ast.walk(node)
+                          if isinstance(item, ast.Attribute) and isinstance(item.ctx, ast.Store)]
+            self.assertEqual(len(methods), len(set(methods)), where)
+            self.assertEqual(set(methods) & set(attributes), set(), where)
 
     def test_builtins(self):
         every = [name for name in dir(builtins) if not name.startswith("__")]
@@ -131,15 +203,23 @@ class TestInterface(unittest.TestCase):
                 self.assertEqual(function.__name__ + str(inspect.signature(function)), line)
                 self.assertEqual(function.__module__, module.__name__)
 
-    def test_book(self):
-        self.assertEqual(books.Book.__module__, "blindtwins.books")
-        for line in METHODS:
-            method = vars(books.Book)[line.split("(")[0]]
-            found = str(inspect.signature(method)).replace(" ", "")
-            self.assertEqual(method.__name__ + found, line)
+    def test_classes(self):
+        for module, found in ((books, books.Book), (stores, stores.Store), (deals, deals.Deal)):
+            self.assertEqual(found.__module__, module.__name__)
+
+    def test_methods(self):
+        for owner, listed in METHODS.items():
+            for line in listed:
+                method = vars(owner)[line.split("(")[0]]
+                found = str(inspect.signature(method)).replace(" ", "")
+                self.assertEqual(method.__name__ + found, line)
 
     def test_attributes_are_set_at_once(self):
-        self.assertEqual(sorted(vars(books.Book(2, []))), ["dim", "masks", "size"])
+        book = books.Book(2, [])
+        self.assertEqual(sorted(vars(book)), ["dim", "masks", "size"])
+        self.assertEqual(sorted(vars(stores.Store(book, ((0, 1),)))), ["book", "disks"])
+        found = [name for name in vars(deals.Deal(book, {"a": ()}, {"b": ()})) if name[0] != "_"]
+        self.assertEqual(sorted(found), ["book", "hands", "secrets", "told"])
         self.assertEqual(vars(errors.BadLot(3)), {"what": 3})
 
 

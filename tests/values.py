@@ -3,7 +3,9 @@
 import unittest
 
 from blindtwins.books import Book
+from blindtwins.deals import Deal
 from blindtwins.errors import BadLot
+from blindtwins.stores import Store
 
 BIG = 10 ** 5000
 
@@ -22,7 +24,8 @@ def all_kinds():
     tuples += [("sum", (0,)), ("twin", ()), ("sum", (0,), ())]
     lists = [[], [0], [(0,)], [(True,)], [[0]], [None], [(0,)] * 61, [()] * 1000, [Book(1, [])]]
     dicts = [{}, {0: 0}, {0: (0,)}, {True: 1}, {0: True}, {"a": 1}, {(0,): [0]}, {0: Book(1, [])}]
-    objects = [Book(1, []), Book(24, [(0, 23)]), BadLot((0,)), BadLot()]
+    objects = [Book(1, []), Book(24, [(0, 23)]), BadLot((0,)), BadLot(), Store(Book(1, []), ((0,),))]
+    objects += [Deal(Book(1, []), {"a": (0,)}, {"b": (0,)})]
     deep = [nested(0, lambda x: (x,)), nested((), lambda x: [x]), nested(True, lambda x: {0: x})]
     deep += [nested(Book(3, []), lambda x: (x, [x], {1: x}), 8)]
     return plain + tuples + lists + dicts + objects + deep
@@ -43,6 +46,27 @@ def no_lots(size):
     """Values of all kinds that are no lots of this size."""
     near = [(size,), (0, size), (0, BIG), [0], "0", (size - 1, size - 1), (False,)]
     return [value for value in all_kinds() + near if not plainly_lot(value, size)]
+
+
+def no_integers(least, greatest):
+    """Values of all kinds that are no integers from the least to the greatest."""
+    near = [least - 1, greatest + 1, str(least), (least,), [greatest]]
+    values = all_kinds() + near
+    return [value for value in values if not (plainly_number(value) and least <= value <= greatest)]
+
+
+def no_lists():
+    """Values of all kinds that are no lists."""
+    return [value for value in all_kinds() if type(value) is not list]
+
+
+def plainly_name(value):
+    """The definition of a name, word by word."""
+    letters = "abcdefghijklmnopqrstuvwxyz"
+    return type(value) is str and 1 <= len(value) <= 12 and all(sign in letters for sign in value)
+
+
+NO_NAMES = ["", "a" * 13, "A", "a1", "a b", "a\n", "\n", "a_", "\xe9", "\xdf", "\uff41", b"a", 0, None, True]
 
 
 class ErrorCase(unittest.TestCase):
