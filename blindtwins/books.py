@@ -1,7 +1,7 @@
 """Books: sets of words that have the word of noughts and with each two words their sum."""
 
 from blindtwins.errors import BadLot, BadOrder, BadSize, TooMany, Unlike
-from blindtwins.lots import is_lot, is_number, need_lot, need_lots, plus
+from blindtwins.lots import is_between, is_lot, is_number, need_lot, need_lots, plus
 from blindtwins.masks import ALL_PLACES, check_rows, cleared, lot_of, mask_of, odd
 from blindtwins.masks import picked, reduce_rows, span, unseen
 
@@ -9,12 +9,17 @@ MOST_SIZE = 24
 MOST_WORDS = 4096
 
 
+def need_book_size(size):
+    """Raises BadSize(size) unless it is a size that books may have."""
+    if not is_between(size, 1, MOST_SIZE):
+        raise BadSize(size)
+
+
 class Book:
     """A book of `size` places, told by rows; `masks` are its reduced rows as masks."""
 
     def __init__(self, size, rows):
-        if not is_number(size) or not 1 <= size <= MOST_SIZE:
-            raise BadSize(size)
+        need_book_size(size)
         need_lots(rows, size)
         self.size = size
         self.masks = tuple(reduce_rows([mask_of(row) for row in rows]))

@@ -1,7 +1,7 @@
 """Clutters: the least parts that know a wish, the least lots that blind for it, and blockers."""
 
 from blindtwins.errors import BadClutter, BadPrices, BadSize, TooMany
-from blindtwins.lots import is_lot, is_number, is_price, need_lot, need_size
+from blindtwins.lots import is_between, is_lot, is_price, need_lot, need_size
 from blindtwins.masks import blocking, containing, first_places, knowing, least_chosen, mask_of
 
 MOST_PLACES = 14
@@ -63,7 +63,7 @@ def _none_contained(lots, size):
 
 def blocker(clutter, size):
     """The ascending list of the least lots that have a common place with each lot of the clutter."""
-    if not is_number(size) or not 0 <= size <= MOST_PLACES:
+    if not is_between(size, 0, MOST_PLACES):
         raise BadSize(size)
     if not isinstance(clutter, list) or len(clutter) > MOST_IN_CLUTTER or not is_clutter(clutter, size):
         raise BadClutter(clutter)

@@ -1,6 +1,6 @@
 """Lots: ascending tuples of numbers, which stand for sets of places and for words."""
 
-from blindtwins.errors import BadLot, BadLots, BadSize
+from blindtwins.errors import BadLot, BadLots, BadPlace, BadSize
 from blindtwins.masks import lot_of, mask_of, odd
 
 MOST_PLACES = 60
@@ -12,9 +12,19 @@ def is_number(value):
     return isinstance(value, int) and not isinstance(value, bool)
 
 
+def is_between(value, least, most):
+    """True if the value is an integer from the least to the most."""
+    return is_number(value) and least <= value <= most
+
+
+def is_below(value, count):
+    """True if the value is one of so many things, numbered from 0 on."""
+    return is_between(value, 0, count - 1)
+
+
 def is_bit(value):
     """True if the value is the integer 0 or 1."""
-    return is_number(value) and 0 <= value <= 1
+    return is_between(value, 0, 1)
 
 
 def is_price(value):
@@ -24,8 +34,14 @@ def is_price(value):
 
 def need_size(size):
     """Raises BadSize(size) unless it is a size that lots may have."""
-    if not is_number(size) or not 0 <= size <= MOST_PLACES:
+    if not is_between(size, 0, MOST_PLACES):
         raise BadSize(size)
+
+
+def need_place(place, size):
+    """Raises BadPlace(place) unless it is one of so many places."""
+    if not is_below(place, size):
+        raise BadPlace(place)
 
 
 def is_lot(value, size):

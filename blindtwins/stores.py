@@ -2,7 +2,7 @@
 
 from blindtwins.errors import BadCount, BadDisks, BadFalls, BadPlace, BadPrices
 from blindtwins.known import knows
-from blindtwins.lots import is_lot, is_number, is_price, need_lot, need_lots
+from blindtwins.lots import is_between, is_lot, is_price, need_lot, need_lots, need_place
 from blindtwins.masks import costs_of, first_places, knowing, lot_of, mask_of, ones
 from blindtwins.masks import shadows, unseen, with_bits
 
@@ -132,8 +132,7 @@ def repair(store, place, fall, prices):
 
 def _need_repair(store, place, fall, prices):
     """Raises the error of the first wrong argument of `repair`."""
-    if not is_number(place) or not 0 <= place < store.book.size:
-        raise BadPlace(place)
+    need_place(place, store.book.size)
     need_lot(fall, len(store.disks))
     if not isinstance(prices, tuple) or len(prices) != len(store.disks):
         raise BadPrices(prices)
@@ -146,7 +145,7 @@ def _need_repair(store, place, fall, prices):
 def rounds(store, fall, most):
     """(lots put back in round 1, 2, .., the lot never put back) if most disks are read for a place."""
     missing = _fallen(store, fall)
-    if not is_number(most) or not 1 <= most <= MOST_DISKS:
+    if not is_between(most, 1, MOST_DISKS):
         raise BadCount(most)
     done = []
     back = _put_back(store, missing, most)
@@ -200,7 +199,7 @@ def weakest(store):
 
 def bad_falls(store, number):
     """How many falls of exactly this number of disks lose something."""
-    if not is_number(number) or not 0 <= number <= len(store.disks):
+    if not is_between(number, 0, len(store.disks)):
         raise BadCount(number)
     # As in `weakest`, a fall is told by its index in the reversed table.
     table = shadows(store.book.masks, _masks(store))[::-1]

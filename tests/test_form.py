@@ -7,7 +7,7 @@ import os
 import re
 import unittest
 
-from blindtwins import books, clutters, deals, errors, known, looks, lots, stores
+from blindtwins import books, calls, clutters, deals, errors, kept, known, looks, lots, noise, stores, wires
 
 PACKAGE = os.path.join(os.path.dirname(os.path.dirname(os.path.abspath(__file__))), "blindtwins")
 BUILTINS = """len range enumerate zip min max sum abs sorted reversed int str bool bytes list tuple
@@ -42,6 +42,12 @@ INTERFACE = {
              "rounds(store, fall, most)", "weakest(store)", "bad_falls(store, number)",
              "heals(store, sums, falls)"],
     looks: ["is_look(value, wires)", "together(one, other)", "times(one, other)"],
+    wires: ["zeros(wires)", "run(state, script, bits)"],
+    kept: ["gain(kept, part)", "mends(kept, fall)", "moved_off(kept, fall, deed)", "weakest_wires(kept)",
+           "between(kept, part)", "from_books(flips, turns)"],
+    calls: ["serve_fault(call, sums)", "fewest(call)", "chain_fault(call, chain)", "longest_chain(call)"],
+    noise: ["up_to(book, number)", "surely(noise)", "words_of(noise, came, silent)",
+            "ask_again(noise, came, silent)", "greatest(book)"],
 }
 METHODS = {
     books.Book: """rows(self) checks(self) holds(self,word) is_check(self,lot) tell_same(self,one,other)
@@ -54,6 +60,11 @@ knows_fault(self,group,secret,answer) left(self,group,names) say(self,lot) leave
 hand_over(self,name,other) least_groups(self,secret) least_blinding(self,secret)
 agreed(self,hands,listeners) agreed_lots(self,hands,listeners)
 agreed_fault(self,hands,listeners,lots) __eq__(self,other)""".split(),
+    wires.State: """__init__(self,wires,looks) looks(self) swap_sorts(self,wire) quarter(self,wire)
+tied(self,first,second) turn_by(self,look) look(self,look) __eq__(self,other)""".split(),
+    kept.Kept: "__init__(self,wires,looks) __eq__(self,other)".split(),
+    calls.Call: ["__init__(self,blocks,hearers)"],
+    noise.Noise: ["__init__(self,book,patterns)"],
 }
 
 
@@ -133,7 +144,9 @@ class TestStatements(unittest.TestCase):
             functions = [node for node in ast.walk(tree) if isinstance(node, ast.FunctionDef)]
             local += [node.id for function in functions for node in ast.walk(function)
                       if isinstance(node, ast.Name) and isinstance(node.ctx, ast.Store)]
-            self.assertEqual(set(local) & set(every), set(), name)
+            # The interface has a function and a parameter of the name weights.
+            self.assertLessEqual(set(local) & set(every), {"weights"}, name)
+            self.assertEqual(set(local) & set(imported), set(), name)
             used = [node.id for node in ast.walk(tree) if isinstance(node, ast.Name)]
             self.assertEqual(set(imported) - set(used), set(), name)
 
@@ -204,8 +217,10 @@ class TestInterface(unittest.TestCase):
                 self.assertEqual(function.__module__, module.__name__)
 
     def test_classes(self):
-        for module, found in ((books, books.Book), (stores, stores.Store), (deals, deals.Deal)):
-            self.assertEqual(found.__module__, module.__name__)
+        for owner in METHODS:
+            module = {"Book": books, "Store": stores, "Deal": deals, "State": wires, "Kept": kept,
+                      "Call": calls, "Noise": noise}[owner.__name__]
+            self.assertEqual(owner.__module__, module.__name__)
 
     def test_methods(self):
         for owner, listed in METHODS.items():
@@ -216,10 +231,14 @@ class TestInterface(unittest.TestCase):
 
     def test_attributes_are_set_at_once(self):
         book = books.Book(2, [])
-        self.assertEqual(sorted(vars(book)), ["dim", "masks", "size"])
-        self.assertEqual(sorted(vars(stores.Store(book, ((0, 1),)))), ["book", "disks"])
-        found = [name for name in vars(deals.Deal(book, {"a": ()}, {"b": ()})) if name[0] != "_"]
-        self.assertEqual(sorted(found), ["book", "hands", "secrets", "told"])
+        made = [(book, "dim size"), (stores.Store(book, ((0, 1),)), "book disks"),
+                (deals.Deal(book, {"a": ()}, {"b": ()}), "book hands secrets told"),
+                (wires.State(1, [(0, (0,), ())]), "wires"), (kept.Kept(1, []), "kept wires"),
+                (calls.Call(1, (((), (), ()),)), "blocks hearers"), (noise.Noise(book, [()]), "book patterns")]
+        for thing, listed in made:
+            # Those that begin with a line, and the masks, are the package's own.
+            found = [name for name in vars(thing) if name[0] != "_" and name != "masks"]
+            self.assertEqual(sorted(found), listed.split())
         self.assertEqual(vars(errors.BadLot(3)), {"what": 3})
 
 

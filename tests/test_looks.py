@@ -6,73 +6,10 @@ import unittest
 from blindtwins.errors import BadLook, BadLooks, BadSize
 from blindtwins.looks import is_look, times, together
 
-from tests import plain
-from tests.values import ErrorCase, all_kinds, no_integers, no_lots, plainly_lot, plainly_number
+from tests.pauli import all_looks, by_the_rule, go_together, matrix, product_of, some_looks
+from tests.values import ErrorCase, no_integers, no_looks, plainly_look
 
 TEN = tuple(range(10))
-ONE, FLIP, TURN, BOTH = ((1, 0), (0, 1)), ((0, 1), (1, 0)), ((1, 0), (0, -1)), ((0, -1j), (1j, 0))
-
-
-def all_looks(wires):
-    lots = plain.all_lots(wires)
-    return [(sign, flips, turns) for sign in (0, 1) for flips in lots for turns in lots]
-
-
-def beside(one, other):
-    """The Kronecker product of two matrices."""
-    return tuple(tuple(a * b for a in first for b in second) for first in one for second in other)
-
-
-def matrix(look, wires):
-    """The operator that a look stands for."""
-    sign, flips, turns = look
-    result = ((1 - 2 * sign,),)
-    for wire in range(wires):
-        kinds = {(0, 0): ONE, (1, 0): FLIP, (0, 1): TURN, (1, 1): BOTH}
-        result = beside(result, kinds[wire in flips, wire in turns])
-    return result
-
-
-def product_of(one, other):
-    columns = list(zip(*other))
-    return tuple(tuple(sum(a * b for a, b in zip(row, column)) for column in columns) for row in one)
-
-
-def common(one, other):
-    return len(set(one) & set(other))
-
-
-def go_together(one, other):
-    """The definition of point 29, word by word."""
-    return common(one[1], other[2]) % 2 == common(one[2], other[1]) % 2
-
-
-def by_the_rule(one, other):
-    (s, f, t), (s2, f2, t2) = one, other
-    flips, turns = plain.add(f, f2), plain.add(t, t2)
-    number = 2 * s + 2 * s2 + common(f, t) + common(f2, t2) + 2 * common(t, f2) - common(flips, turns)
-    assert number % 4 in (0, 2)
-    return number % 4 // 2, flips, turns
-
-
-def some_looks(source, wires, number):
-    lots = [tuple(sorted(source.sample(range(wires), source.randrange(wires + 1)))) for _ in range(2 * number)]
-    return [(source.randrange(2), lots[2 * k], lots[2 * k + 1]) for k in range(number)]
-
-
-def plainly_look(value, wires):
-    """The definition of a look, word by word."""
-    if type(value) is not tuple or len(value) != 3 or not plainly_number(value[0]) or value[0] not in (0, 1):
-        return False
-    return plainly_lot(value[1], wires) and plainly_lot(value[2], wires)
-
-
-def no_looks(wires):
-    """Values of all kinds that are no looks of so many wires."""
-    near = [(0, ()), (0, (), (), ()), [0, (), ()], (2, (), ()), (-1, (), ()), (None, (), ()), ("0", (), ())]
-    near += [(True, (), ()), (False, (), ()), ((), (), ()), (0, [], ()), (0, (), []), ((), 0, ()), ((), ())]
-    near += [(0, lot, ()) for lot in no_lots(wires)] + [(1, (), lot) for lot in no_lots(wires)]
-    return near + [value for value in all_kinds() if not plainly_look(value, wires)]
 
 
 class TestExamples(ErrorCase):

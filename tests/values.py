@@ -3,9 +3,13 @@
 import unittest
 
 from blindtwins.books import Book
+from blindtwins.calls import Call
 from blindtwins.deals import Deal
 from blindtwins.errors import BadLot
+from blindtwins.kept import Kept
+from blindtwins.noise import Noise
 from blindtwins.stores import Store
+from blindtwins.wires import State
 
 BIG = 10 ** 5000
 
@@ -25,7 +29,8 @@ def all_kinds():
     lists = [[], [0], [(0,)], [(True,)], [[0]], [None], [(0,)] * 61, [()] * 1000, [Book(1, [])]]
     dicts = [{}, {0: 0}, {0: (0,)}, {True: 1}, {0: True}, {"a": 1}, {(0,): [0]}, {0: Book(1, [])}]
     objects = [Book(1, []), Book(24, [(0, 23)]), BadLot((0,)), BadLot(), Store(Book(1, []), ((0,),))]
-    objects += [Deal(Book(1, []), {"a": (0,)}, {"b": (0,)})]
+    objects += [Deal(Book(1, []), {"a": (0,)}, {"b": (0,)}), State(1, [(0, (), (0,))]), Kept(1, [])]
+    objects += [Call(1, (((0,), (), ()),)), Noise(Book(1, []), [()])]
     deep = [nested(0, lambda x: (x,)), nested((), lambda x: [x]), nested(True, lambda x: {0: x})]
     deep += [nested(Book(3, []), lambda x: (x, [x], {1: x}), 8)]
     return plain + tuples + lists + dicts + objects + deep
@@ -46,6 +51,33 @@ def no_lots(size):
     """Values of all kinds that are no lots of this size."""
     near = [(size,), (0, size), (0, BIG), [0], "0", (size - 1, size - 1), (False,)]
     return [value for value in all_kinds() + near if not plainly_lot(value, size)]
+
+
+def plainly_look(value, wires):
+    """The definition of a look, word by word."""
+    if type(value) is not tuple or len(value) != 3 or not plainly_number(value[0]) or value[0] not in (0, 1):
+        return False
+    return plainly_lot(value[1], wires) and plainly_lot(value[2], wires)
+
+
+def no_looks(wires):
+    """Values of all kinds that are no looks of so many wires."""
+    near = [(0, ()), (0, (), (), ()), [0, (), ()], (2, (), ()), (-1, (), ()), (None, (), ()), ("0", (), ())]
+    near += [(True, (), ()), (False, (), ()), ((), (), ()), (0, [], ()), (0, (), []), ((), 0, ()), ((), ())]
+    near += [(0, lot, ()) for lot in no_lots(wires)] + [(1, (), lot) for lot in no_lots(wires)]
+    return near + [value for value in all_kinds() if not plainly_look(value, wires)]
+
+
+def plainly_pair(value, wires):
+    """The definition of a deed on wires, word by word."""
+    return type(value) is tuple and len(value) == 2 and all(plainly_lot(lot, wires) for lot in value)
+
+
+def no_pairs(wires):
+    """Values of all kinds that are no pairs of lots of so many wires."""
+    near = [((),), ((), (), ()), [(), ()], (0, (), ()), ([], ()), ((), [0]), (None, ()), ((), True), (0, 0)]
+    near += [(lot, ()) for lot in no_lots(wires)] + [((), lot) for lot in no_lots(wires)]
+    return near + [value for value in all_kinds() if not plainly_pair(value, wires)]
 
 
 def no_integers(least, greatest):
