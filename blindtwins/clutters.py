@@ -1,7 +1,7 @@
 """Clutters: the least parts that know a wish, the least lots that blind for it, and blockers."""
 
 from blindtwins.errors import BadClutter, BadPrices, BadSize, TooMany
-from blindtwins.lots import is_between, is_lot, is_price, need_lot, need_size
+from blindtwins.lots import is_amount, is_between, is_lot, need_lot, need_size
 from blindtwins.masks import blocking, containing, first_places, knowing, least_chosen, mask_of
 
 MOST_PLACES = 14
@@ -93,7 +93,7 @@ def _need_prices(book, wish, prices):
     if not isinstance(prices, dict):
         raise BadPrices(prices)
     for place in _other_places(book, wish):
-        if not is_price(prices.get(place)):
+        if not is_amount(prices.get(place)):
             raise BadPrices(prices)
 
 

@@ -2,7 +2,7 @@
 
 from blindtwins.books import MOST_WORDS
 from blindtwins.errors import BadLot, BadPrices, TooMany
-from blindtwins.lots import is_below, is_lot, is_price, need_lot, need_lots
+from blindtwins.lots import is_amount, is_below, is_lot, need_lot, need_lots
 from blindtwins.masks import bits_at, certificate, costs_of, lot_of, mask_of, odd, picked
 from blindtwins.masks import reduce_rows, span, sweep, unseen
 
@@ -130,7 +130,7 @@ def _are_prices(value, size):
     if not isinstance(value, dict) or len(value) > MOST_OFFERED:
         return False
     for place, price in value.items():
-        if not is_below(place, size) or not is_price(price):
+        if not is_below(place, size) or not is_amount(price):
             return False
     return True
 

@@ -27,7 +27,7 @@ def is_bit(value):
     return is_between(value, 0, 1)
 
 
-def is_price(value):
+def is_amount(value):
     """True if the value is an integer from 0 on."""
     return is_number(value) and value >= 0
 

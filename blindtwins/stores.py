@@ -2,7 +2,7 @@
 
 from blindtwins.errors import BadCount, BadDisks, BadFalls, BadPlace, BadPrices
 from blindtwins.known import knows
-from blindtwins.lots import is_between, is_lot, is_price, need_lot, need_lots, need_place
+from blindtwins.lots import is_amount, is_between, is_lot, need_lot, need_lots, need_place
 from blindtwins.masks import costs_of, first_places, knowing, lot_of, mask_of, ones
 from blindtwins.masks import shadows, unseen, with_bits
 
@@ -136,7 +136,7 @@ def _need_repair(store, place, fall, prices):
     need_lot(fall, len(store.disks))
     if not isinstance(prices, tuple) or len(prices) != len(store.disks):
         raise BadPrices(prices)
-    if not all([is_price(price) for price in prices]):
+    if not all([is_amount(price) for price in prices]):
         raise BadPrices(prices)
     if place not in places_of(store, fall):
         raise BadPlace(place)

@@ -7,7 +7,8 @@ import os
 import re
 import unittest
 
-from blindtwins import books, calls, clutters, deals, errors, kept, known, looks, lots, noise, stores, wires
+from blindtwins import books, calls, clutters, counts, deals, errors, house, kept, known, logs, looks, lots
+from blindtwins import noise, stores, texts, wires
 
 PACKAGE = os.path.join(os.path.dirname(os.path.dirname(os.path.abspath(__file__))), "blindtwins")
 BUILTINS = """len range enumerate zip min max sum abs sorted reversed int str bool bytes list tuple
@@ -27,7 +28,7 @@ getattr globals hasattr help id importlib license locals methodcaller os quit se
 # Barred as names, also with digits or underscores behind them; and as beginnings of names.
 NOT_CALLED = r"(_cold|_tuplegetter|_outside|_record|_written_out|_member_names)[0-9_]*"
 NOT_BEGUN = r"(__|_[^a-z]|_wall|_pe_|_dcw_|_enum_|_cm_|_twin_re_|_lay_|_law_|_stub_|_sre|_WallAttr)"
-DOUBLE = ["__init__", "__eq__"]
+DOUBLE = ["__init__", "__eq__", "__iadd__", "__len__", "__contains__"]
 INTERFACE = {
     lots: ["is_lot(value, size)", "plus(one, other)", "bit_at(word, lot)", "total(lots)"],
     known: ["see(book, part)", "hide(book, part)", "knows(book, part, wish)",
@@ -48,6 +49,10 @@ INTERFACE = {
     calls: ["serve_fault(call, sums)", "fewest(call)", "chain_fault(call, chain)", "longest_chain(call)"],
     noise: ["up_to(book, number)", "surely(noise)", "words_of(noise, came, silent)",
             "ask_again(noise, came, silent)", "greatest(book)"],
+    counts: ["weights(book)", "turned_weights(size, dim, weights)", "knowing_counts(book, place)"],
+    logs: ["count_fit(book, log)", "sure(book, log, wish)", "against(book, log)",
+           "against_fault(book, log, indexes)", "least_against(book, log)"],
+    texts: ["book_text(book)", "read_book(text)", "log_text(book, log)", "read_log(book, text)"],
 }
 METHODS = {
     books.Book: """rows(self) checks(self) holds(self,word) is_check(self,lot) tell_same(self,one,other)
@@ -65,6 +70,9 @@ tied(self,first,second) turn_by(self,look) look(self,look) __eq__(self,other)"""
     kept.Kept: "__init__(self,wires,looks) __eq__(self,other)".split(),
     calls.Call: ["__init__(self,blocks,hearers)"],
     noise.Noise: ["__init__(self,book,patterns)"],
+    house.House: """__init__(self,book,word) look(self,place) ask(self,wish) fall(self,place)
+heal(self,place) undo(self) trial(self,deeds) watch(self,deeds) __iadd__(self,deeds) __len__(self)
+__contains__(self,place)""".split(),
 }
 
 
@@ -219,7 +227,7 @@ class TestInterface(unittest.TestCase):
     def test_classes(self):
         for owner in METHODS:
             module = {"Book": books, "Store": stores, "Deal": deals, "State": wires, "Kept": kept,
-                      "Call": calls, "Noise": noise}[owner.__name__]
+                      "Call": calls, "Noise": noise, "House": house}[owner.__name__]
             self.assertEqual(owner.__module__, module.__name__)
 
     def test_methods(self):
@@ -234,7 +242,8 @@ class TestInterface(unittest.TestCase):
         made = [(book, "dim size"), (stores.Store(book, ((0, 1),)), "book disks"),
                 (deals.Deal(book, {"a": ()}, {"b": ()}), "book hands secrets told"),
                 (wires.State(1, [(0, (0,), ())]), "wires"), (kept.Kept(1, []), "kept wires"),
-                (calls.Call(1, (((), (), ()),)), "blocks hearers"), (noise.Noise(book, [()]), "book patterns")]
+                (calls.Call(1, (((), (), ()),)), "blocks hearers"), (noise.Noise(book, [()]), "book patterns"),
+                (house.House(book, ()), "asked book fallen seen")]
         for thing, listed in made:
             # Those that begin with a line, and the masks, are the package's own.
             found = [name for name in vars(thing) if name[0] != "_" and name != "masks"]

@@ -6,6 +6,7 @@ from blindtwins.books import Book
 from blindtwins.calls import Call
 from blindtwins.deals import Deal
 from blindtwins.errors import BadLot
+from blindtwins.house import House
 from blindtwins.kept import Kept
 from blindtwins.noise import Noise
 from blindtwins.stores import Store
@@ -30,7 +31,7 @@ def all_kinds():
     dicts = [{}, {0: 0}, {0: (0,)}, {True: 1}, {0: True}, {"a": 1}, {(0,): [0]}, {0: Book(1, [])}]
     objects = [Book(1, []), Book(24, [(0, 23)]), BadLot((0,)), BadLot(), Store(Book(1, []), ((0,),))]
     objects += [Deal(Book(1, []), {"a": (0,)}, {"b": (0,)}), State(1, [(0, (), (0,))]), Kept(1, [])]
-    objects += [Call(1, (((0,), (), ()),)), Noise(Book(1, []), [()])]
+    objects += [Call(1, (((0,), (), ()),)), Noise(Book(1, []), [()]), House(Book(1, []), ())]
     deep = [nested(0, lambda x: (x,)), nested((), lambda x: [x]), nested(True, lambda x: {0: x})]
     deep += [nested(Book(3, []), lambda x: (x, [x], {1: x}), 8)]
     return plain + tuples + lists + dicts + objects + deep
